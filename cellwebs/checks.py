@@ -1,7 +1,7 @@
 """Refusing arguments that do not fit."""
 
-from cellwebs.errors import InvalidKnot, InvalidNumber, InvalidWeb
-from cellwebs.forms import is_knot, is_place, is_whole
+from cellwebs.errors import InvalidKnot, InvalidNumber, InvalidRows, InvalidTie, InvalidWeb
+from cellwebs.forms import are_names, are_sizes, are_turns, is_knot, is_place, is_tie, is_whole
 from cellwebs.webs import Web
 
 
@@ -27,3 +27,27 @@ def check_many(value):
     """Raise InvalidNumber unless a value is a whole number of at least 0."""
     if not is_whole(value) or value < 0:
         raise InvalidNumber(value)
+
+
+def check_tie(web, value):
+    """Raise InvalidTie unless a value is a tie for the places and directions of the web."""
+    if not is_tie(value, web.directions, web.places):
+        raise InvalidTie(value)
+
+
+def check_names(web, value):
+    """Raise InvalidRows unless a value tells other names and origins of the places of the web."""
+    if not are_names(value, web.directions, web.places):
+        raise InvalidRows(value)
+
+
+def check_turns(web, value):
+    """Raise InvalidRows unless a value tells other directions of the web."""
+    if not are_turns(value, web.directions):
+        raise InvalidRows(value)
+
+
+def check_sizes(web, value):
+    """Raise InvalidRows unless a value tells greater cells of the web."""
+    if not are_sizes(value, web.directions):
+        raise InvalidRows(value)

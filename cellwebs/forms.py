@@ -1,5 +1,7 @@
 """Whether values have the forms of which webs are made."""
 
+from cellwebs.tables import determinant
+
 
 def is_whole(value):
     """Whether a value is a whole number."""
@@ -41,3 +43,26 @@ def tells_web(directions, places, ties):
     if not is_whole(places) or places < 1:
         return False
     return isinstance(ties, list) and all([is_tie(tie, directions, places) for tie in ties])
+
+
+def are_names(value, directions, places):
+    """Whether a value is a list of a name and a move for each place, the names being all places once each."""
+    if not isinstance(value, list) or len(value) != places:
+        return False
+    if not all([is_knot(row, directions, places) for row in value]):
+        return False
+    return len({name for name, _ in value}) == places
+
+
+def are_turns(value, directions):
+    """Whether a value is a list of as many moves as directions, with the determinant 1 or -1."""
+    if not isinstance(value, list) or len(value) != directions:
+        return False
+    return all([is_move(row, directions) for row in value]) and determinant(value) in (1, -1)
+
+
+def are_sizes(value, directions):
+    """Whether a value is a list of as many whole numbers of at least 1 as directions."""
+    if not isinstance(value, list) or len(value) != directions:
+        return False
+    return all([is_whole(number) and number >= 1 for number in value])

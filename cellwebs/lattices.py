@@ -43,6 +43,16 @@ def tidied(moves):
 
 def multiples(rows, move):
     """The tuple of the whole multiples of rows whose sum is a move, None if there are none."""
+    found, rest = divided(rows, move)
+    return found if lead(rest) is None else None
+
+
+def divided(rows, move):
+    """The whole multiples of rows that can be taken off a move, and what is left: (multiples, rest).
+
+    With as many rows as a move has numbers, the same is left of two moves
+    exactly if one comes from the one to the other by sums of multiples.
+    """
     found = []
     rest = move
     for row in rows:
@@ -50,4 +60,4 @@ def multiples(rows, move):
         many = rest[at] // row[at]
         found.append(many)
         rest = less(rest, times(row, many))
-    return tuple(found) if lead(rest) is None else None
+    return tuple(found), rest

@@ -4,6 +4,7 @@ from copy import deepcopy
 
 from cellwebs.errors import InvalidKnot, InvalidWeb
 from cellwebs.webs import Web
+from known import UNSTEADY
 
 
 def values():
@@ -34,6 +35,59 @@ def no_knots():
 def no_places():
     """Values of every kind that are no places of a web of two places."""
     return [value for value in values() if type(value) is not int or value not in (0, 1)] + [2, 10 ** 40, -2, "1"]
+
+
+def no_ties():
+    """Values of every kind that are no ties of a web of two directions and two places."""
+    return values() + [
+        (0, 1), (0, 1, (0, 0), 0), (0, 1, (0, 0), None), ((0, 0), 0, 1), [0, 1, (0, 0)], (0, 1, [0, 0]),
+        (2, 0, (0, 0)), (0, 2, (0, 0)), (-1, 0, (0, 0)), (0, -1, (0, 0)), (10 ** 40, 0, (0, 0)),
+        (0, True, (0, 0)), (True, 0, (0, 0)), (False, 1, (0, 0)), (1, False, (0, 0)), ("0", 1, (0, 0)),
+        (0, "1", (0, 0)), (None, 1, (0, 0)), (0, None, (0, 0)), ((0,), 1, (0, 0)), (0, [1], (0, 0)),
+        (0, 1, ()), (0, 1, (0,)), (0, 1, (0, 0, 0)), (0, 1, (0, True)), (0, 1, (False, 0)), (0, 1, (0, None)),
+        (0, 1, ("0", 0)), (0, 1, (0, (0,))), (0, 1, ([], 0)), (0, 1, None), (0, 1, 0), (0, 1, "00"),
+        (0, 1, {0: 0, 1: 0}), (0, 0, (0, 0)), (1, 1, (0, 0)), {0: 0, 1: 1, 2: (0, 0)}, "01(", ((0, 1, (0, 0)),),
+        (Web(2, 2, []), 1, (0, 0)), (0, 1, Web(2, 2, [])),
+    ]
+
+
+def no_names():
+    """Values of every kind that are no names and origins of the places of a web of two directions and two places."""
+    good = (0, (0, 0))
+    wrong = [(1, move) for move in (
+        (0,), (0, 0, 0), (), [0, 0], (0, True), (False, 0), (0, None), ("0", 0), ((0, 0),), None, 0, "00", {0: 0, 1: 0})]
+    wrong += [(name, (0, 0)) for name in (0, 2, -1, 10 ** 40, True, None, "1", (1,), [1], Web(2, 2, []))]
+    wrong += [1, None, "1", (), (1,), (1, 0, 0), ((0, 0), 1), (1, (0, 0), 0), [1, (0, 0)], {1: (0, 0)}, Web(2, 2, [])]
+    return values() + [[good, row] for row in wrong] + [[row, good] for row in wrong] + [
+        [good], [(1, (0, 0))], [good, (1, (0, 0)), (2, (0, 0))], [good, (1, (0, 0)), good], [good, good, (1, (0, 0))],
+        (good, (1, (0, 0))), {0: good, 1: (1, (0, 0))}, [[good, (1, (0, 0))]], [good, good], [(1, (3, 4)), (1, (5, 6))],
+        [(False, (0, 0)), (True, (0, 0))], [(0, (0, 0)), (True, (0, 0))], ((0, (0, 0)), (1, (0, 0))), [[0, 1], [1, 0]],
+    ]
+
+
+def no_turns():
+    """Values of every kind that are no other directions of a web of two directions."""
+    wrong = [(0,), (0, 1, 0), (), [0, 1], (0, True), (False, 1), (0, None), (0, "1"), ((0, 1),), None, 1, "01",
+             {0: 0, 1: 1}, (0, (1,)), Web(2, 2, [])]
+    return values() + [[(1, 0), row] for row in wrong] + [[row, (1, 0)] for row in wrong] + [
+        [(1, 0)], [(1, 0), (0, 1), (0, 0)], [(1, 0), (0, 1), (1, 1)], ((1, 0), (0, 1)), {0: (1, 0), 1: (0, 1)},
+        [[1, 0], [0, 1]], [1, 0, 0, 1], [[(1, 0), (0, 1)]], [(1, 0, 0), (0, 1, 0), (0, 0, 1)], [(1,)],
+        [(0, 0), (0, 0)], [(1, 1), (1, 1)], [(1, 0), (0, 0)], [(2, 4), (1, 2)], [(1, 0), (0, 2)], [(0, 1), (2, 0)],
+        [(1, 1), (1, -1)], [(1, 1), (-1, 1)], [(3, 1), (1, 1)], [(10 ** 12, 1), (1, 0 - 10 ** 12)],
+    ]
+
+
+def no_sizes():
+    """Values of every kind that are no sizes of greater cells of a web of two directions."""
+    wrong = [0, -1, -2, -10 ** 40, True, False, None, "1", (1,), [1], {}, Web(1, 1, [])]
+    return values() + [[1, number] for number in wrong] + [[number, 1] for number in wrong] + [
+        [1], [2], [1, 1, 1], [2, 2, 0], (1, 1), (2, 3), {0: 1, 1: 1}, "11", [[1, 1]], [(1, 1)], 2, [0, 0], [-1, -1],
+    ]
+
+
+def no_steady_webs():
+    """Values of every kind that are no steady webs."""
+    return no_webs() + [Web(*raw) for raw, _ in UNSTEADY]
 
 
 def no_counts():

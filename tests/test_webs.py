@@ -5,7 +5,7 @@ from random import Random
 
 from cellwebs.errors import InvalidWeb
 from cellwebs.webs import Web
-from misfits import repr_of, values
+from misfits import no_ties, repr_of, values
 from steps import samples
 
 
@@ -182,7 +182,7 @@ class Refused(unittest.TestCase):
                 self.refuse(1, 2, value)
 
     def test_ties_in_the_list(self):
-        for tie in values() + no_ties():
+        for tie in no_ties():
             with self.subTest(tie=tie):
                 self.refuse(2, 2, [tie])
                 self.refuse(2, 2, [(0, 1, (0, 0)), (1, 1, (1, 0)), tie])
@@ -217,20 +217,6 @@ class Refused(unittest.TestCase):
         with self.assertRaises(InvalidWeb) as caught:
             Web(ties=3, places=2, directions=1)
         self.assertEqual(caught.exception.value, (1, 2, 3))
-
-
-def no_ties():
-    """Values that are no ties of a web of two directions and two places."""
-    return [
-        (0, 1), (0, 1, (0, 0), 0), (0, 1, (0, 0), None), ((0, 0), 0, 1), [0, 1, (0, 0)], (0, 1, [0, 0]),
-        (2, 0, (0, 0)), (0, 2, (0, 0)), (-1, 0, (0, 0)), (0, -1, (0, 0)), (10 ** 40, 0, (0, 0)),
-        (0, True, (0, 0)), (True, 0, (0, 0)), (False, 1, (0, 0)), (1, False, (0, 0)), ("0", 1, (0, 0)),
-        (0, "1", (0, 0)), (None, 1, (0, 0)), (0, None, (0, 0)), ((0,), 1, (0, 0)), (0, [1], (0, 0)),
-        (0, 1, ()), (0, 1, (0,)), (0, 1, (0, 0, 0)), (0, 1, (0, True)), (0, 1, (False, 0)), (0, 1, (0, None)),
-        (0, 1, ("0", 0)), (0, 1, (0, (0,))), (0, 1, ([], 0)), (0, 1, None), (0, 1, 0), (0, 1, "00"),
-        (0, 1, {0: 0, 1: 0}), (0, 0, (0, 0)), (1, 1, (0, 0)), {0: 0, 1: 1, 2: (0, 0)}, "01(", ((0, 1, (0, 0)),),
-        (Web(2, 2, []), 1, (0, 0)), (0, 1, Web(2, 2, [])),
-    ]
 
 
 if __name__ == "__main__":
